@@ -1,0 +1,1 @@
+"""Bridgeward: answers about graphs, with warrants, kept up under edits."""

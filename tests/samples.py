@@ -1,0 +1,89 @@
+"""Values and graphs that several tests need."""
+
+import random
+import string
+
+from bridgeward.errors import UnknownNode
+from bridgeward.graphs import Graph
+
+
+def nested(depth):
+    """A tuple nested so deep."""
+    value = ()
+    for _ in range(depth - 1):
+        value = (value,)
+    return value
+
+
+NO_NAMES = [
+    None, True, False, 0, 1, -1, "", "A", "aB", "a b", "a1", "a_", "-", "\u00e9", "\u00df", "abcdefghi", "a\n",
+    b"a", (), ("a",), [], ["a"], Graph(("a",), ()), UnknownNode("a"), nested(20),
+]
+ODD_VALUES = NO_NAMES + ["a", "b", "x", "before", "past", 2, 10 ** 12 - 1, (("x",), ("a",)), [["x"], ["a"]]]
+
+
+def random_graph(seed, most_nodes=4, most_edges=6, prices=(-3, 4), most_room=3):
+    """A small graph with loops and parallel edges, the same for the same seed."""
+    dice = random.Random(seed)
+    nodes = tuple(string.ascii_lowercase[: dice.randint(2, most_nodes)])
+    edges = [
+        (label, dice.choice(nodes), dice.choice(nodes), dice.randint(*prices), dice.randint(0, most_room))
+        for label in string.ascii_lowercase[15: 15 + dice.randint(0, most_edges)]
+    ]
+    return Graph(nodes, edges)
+
+
+def pairs_of(graph):
+    """All pairs of nodes, equal ones too."""
+    return [(s, t) for s in graph.nodes for t in graph.nodes]
+
+
+def unlike_pairs_of(graph):
+    return [(s, t) for s, t in pairs_of(graph) if s != t]
+
+
+def full_graphs():
+    """Graphs of 8 nodes and 14 edges, with the greatest prices and rooms."""
+    graphs = []
+    for seed in range(30):
+        dice = random.Random(seed)
+        nodes = tuple("abcdefgh")
+        prices = [(-99, 99), (99,), (-99,), (-99, -98, 98, 99)][seed % 4]
+        ends = [tuple(dice.sample(nodes, 2)) for _ in range(14)]
+        if seed % 3 == 0:
+            # A row of all nodes, so that ways are long.
+            ends[:7] = list(zip(nodes, nodes[1:]))
+        edges = [(label, *pair, dice.choice(prices), 20) for label, pair in zip("pqrstuvwxyzabc", ends)]
+        graphs.append(Graph(nodes, edges))
+    return graphs
+
+
+def changed_parts(value):
+    """The value with each of its parts, at any depth, taken out, doubled, or replaced by an odd value."""
+    yield from ODD_VALUES
+    if isinstance(value, tuple):
+        yield list(value)
+        yield value + (value,)
+        for at, part in enumerate(value):
+            yield value[:at] + value[at + 1:]
+            yield value[:at + 1] + value[at:]
+            for other in changed_parts(part):
+                yield value[:at] + (other,) + value[at + 1:]
+
+
+def is_plain(value):
+    """Whether only tuples, integers and strings stand in the value."""
+    if isinstance(value, tuple):
+        return all(map(is_plain, value))
+    return isinstance(value, (int, str)) and not isinstance(value, bool)
+
+
+def check_looker(test, looker, graph, claim, warrant):
+    """The warrant holds; whatever changes in it or the claim, yes or no is told, and no of what is not plain."""
+    test.assertIs(looker(graph, claim, warrant), True)
+    for other in changed_parts(claim):
+        told = looker(graph, other, warrant)
+        test.assertIs(told, told and is_plain(other), other)
+    for other in changed_parts(warrant):
+        told = looker(graph, claim, other)
+        test.assertIs(told, told and is_plain(other), other)

@@ -1,0 +1,52 @@
+"""Points 1, 2 and the interface: names, files, parameters, arguments by name."""
+
+import importlib
+import inspect
+import unittest
+
+FUNCTIONS = {
+    "readings": [
+        "out_labels(graph, name)", "in_labels(graph, name)", "labels_at(graph, name)", "degree(graph, name)",
+        "other_end(graph, label, name)", "is_way(graph, s, t, labels)", "is_walk(graph, s, t, labels)",
+        "price_of(graph, labels)",
+    ],
+    "graphtexts": ["read_graph(text)"],
+}
+GRAPH_METHODS = [
+    "place(self, name)", "with_node(self, name)", "without_node(self, name)", "with_edge(self, edge)",
+    "without_edge(self, label)", "with_price(self, label, price)", "with_room(self, label, room)",
+    "__init__(self, nodes, edges)",
+]
+GRAPH_OPERATORS = ["__eq__", "__len__", "__contains__", "__getitem__", "__str__", "__iter__"]
+
+
+class TestInterface(unittest.TestCase):
+    def test_functions(self):
+        for name, told in FUNCTIONS.items():
+            module = importlib.import_module("bridgeward." + name)
+            for line in told:
+                function = getattr(module, line.partition("(")[0])
+                self.assertTrue(inspect.isfunction(function))
+                self.assertEqual(function.__module__, module.__name__)
+                self.assertEqual(function.__name__ + str(inspect.signature(function)), line)
+
+    def test_graph(self):
+        graph_class = importlib.import_module("bridgeward.graphs").Graph
+        self.assertEqual(graph_class.__module__, "bridgeward.graphs")
+        for line in GRAPH_METHODS:
+            method = vars(graph_class)[line.partition("(")[0]]
+            self.assertEqual(method.__name__ + str(inspect.signature(method)), line)
+        for name in GRAPH_OPERATORS:
+            self.assertIn(name, vars(graph_class))
+
+    def test_arguments_by_name(self):
+        graph_class = importlib.import_module("bridgeward.graphs").Graph
+        graph = graph_class(edges=[("x", "a", "b", 1, 2)], nodes=["a", "b"])
+        self.assertEqual(graph.with_price(price=3, label="x")["x"], ("x", "a", "b", 3, 2))
+        readings = importlib.import_module("bridgeward.readings")
+        self.assertEqual(readings.other_end(name="b", label="x", graph=graph), "a")
+        self.assertIs(readings.is_way(labels=("x",), t="b", s="a", graph=graph), True)
+
+
+if __name__ == "__main__":
+    unittest.main()
