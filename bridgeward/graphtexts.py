@@ -17,7 +17,7 @@ def _read_nodes(line):
 def _read_edge(line):
     """The edge that a line tells, or None if it is wrong."""
     words = line.split(" ")
-    if len(words) != 6 or words[0] != "edge":
+    if words[0] != "edge":
         return None
     edge = tuple(words[1:4] + [read_integer(word) for word in words[4:]])
     return edge if is_edge(edge) else None

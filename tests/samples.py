@@ -2,9 +2,50 @@
 
 import random
 import string
+import unittest
 
-from bridgeward.errors import UnknownNode
+from bridgeward.errors import UnknownNode, WardError
 from bridgeward.graphs import Graph
+
+
+class WardCase(unittest.TestCase):
+    """Tests of functions that raise errors and of one, the looker, that looks at warrants."""
+
+    looker = None
+
+    def check_error(self, error, call, *values):
+        """The call raises an error of just this class that keeps just the same."""
+        with self.assertRaises(WardError) as caught:
+            call(*values)
+        self.assertIs(type(caught.exception), type(error))
+        self.assertEqual(vars(caught.exception), vars(error))
+
+    def check_yes(self, graph, claim, *warrants):
+        for warrant in warrants:
+            self.assertIs(type(self).looker(graph, claim, warrant), True, (claim, warrant))
+
+    def check_no(self, graph, claim, *warrants):
+        for warrant in warrants:
+            self.assertIs(type(self).looker(graph, claim, warrant), False, (claim, warrant))
+
+    def check_looker(self, graph, claim, warrant):
+        """The warrant holds; whatever changes in it or the claim, no is told of what is not plain."""
+        look = type(self).looker
+        self.check_yes(graph, claim, warrant)
+        for other in changed_parts(claim):
+            told = look(graph, other, warrant)
+            self.assertIs(told, told and is_plain(other), other)
+        for other in changed_parts(warrant):
+            told = look(graph, claim, other)
+            self.assertIs(told, told and is_plain(other), other)
+
+    def check_small_integers(self, value):
+        """Each integer in the value has at most 12 figures."""
+        if isinstance(value, tuple):
+            for part in value:
+                self.check_small_integers(part)
+        elif isinstance(value, int):
+            self.assertLess(abs(value), 10 ** 12)
 
 
 def nested(depth):
@@ -76,14 +117,3 @@ def is_plain(value):
     if isinstance(value, tuple):
         return all(map(is_plain, value))
     return isinstance(value, (int, str)) and not isinstance(value, bool)
-
-
-def check_looker(test, looker, graph, claim, warrant):
-    """The warrant holds; whatever changes in it or the claim, yes or no is told, and no of what is not plain."""
-    test.assertIs(looker(graph, claim, warrant), True)
-    for other in changed_parts(claim):
-        told = looker(graph, other, warrant)
-        test.assertIs(told, told and is_plain(other), other)
-    for other in changed_parts(warrant):
-        told = looker(graph, claim, other)
-        test.assertIs(told, told and is_plain(other), other)

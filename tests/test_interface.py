@@ -11,6 +11,19 @@ FUNCTIONS = {
         "price_of(graph, labels)",
     ],
     "graphtexts": ["read_graph(text)"],
+    "distances": [
+        "distance(graph, s, t)", "distances(graph, s)", "way_claim(graph, s, t)", "way_warrant(graph, s, t)",
+        "way_holds(graph, claim, warrant)",
+    ],
+    "flows": ["greatest_flow(graph, s, t)", "flow_claim(graph, s, t)", "flow_warrant(graph, s, t)"],
+    "cheapest": [
+        "cheapest_flow(graph, s, t, amount)", "cheapest_claim(graph, s, t, amount)",
+        "cheapest_warrant(graph, s, t, amount)", "flow_holds(graph, claim, warrant)",
+    ],
+    "apart": [
+        "edge_ways(graph, s, t)", "node_ways(graph, s, t)", "ways_claim(graph, kind, s, t)",
+        "ways_warrant(graph, kind, s, t)", "ways_hold(graph, claim, warrant)",
+    ],
 }
 GRAPH_METHODS = [
     "place(self, name)", "with_node(self, name)", "without_node(self, name)", "with_edge(self, edge)",

@@ -3,10 +3,10 @@
 import itertools
 import unittest
 
-from bridgeward.errors import UnknownEdge, UnknownNode, WardError
+from bridgeward.errors import UnknownEdge, UnknownNode
 from bridgeward.graphs import Graph
 from bridgeward.readings import degree, in_labels, is_walk, is_way, labels_at, other_end, out_labels, price_of
-from samples import NO_NAMES, ODD_VALUES, pairs_of, random_graph
+from samples import NO_NAMES, ODD_VALUES, WardCase, pairs_of, random_graph
 
 # Loops at a, parallel edges and a turned one between a and b, a tail beyond, d alone.
 GRAPH = Graph(
@@ -30,21 +30,19 @@ def slow_is_way(graph, s, t, labels, undirected):
     return t in here
 
 
-class ReadingsCase(unittest.TestCase):
-    def check_error(self, error, call, *values):
-        with self.assertRaises(WardError) as caught:
-            call(*values)
-        self.assertIs(type(caught.exception), type(error))
-        self.assertEqual(vars(caught.exception), vars(error))
-
-
-class TestLabels(ReadingsCase):
+class TestLabels(WardCase):
     def test_labels(self):
         self.assertEqual([out_labels(GRAPH, n) for n in "abcd"], [("l", "m", "p", "q"), ("r", "t"), (), ()])
         self.assertEqual([in_labels(GRAPH, n) for n in "abcd"], [("l", "m", "r"), ("p", "q"), ("t",), ()])
         at = [("l", "m", "p", "q", "r"), ("p", "q", "r", "t"), ("t",), ()]
         self.assertEqual([labels_at(GRAPH, n) for n in "abcd"], at)
         self.assertEqual([degree(GRAPH, n) for n in "abcd"], [7, 4, 1, 0])
+
+    def test_labels_like_nodes(self):
+        graph = Graph(("a", "b"), (("a", "b", "b", 0, 0), ("b", "b", "b", 0, 0)))
+        for call in (out_labels, in_labels, labels_at):
+            self.assertEqual([call(graph, n) for n in "ab"], [(), ("a", "b")])
+        self.assertEqual([degree(graph, n) for n in "ab"], [0, 4])
 
     def test_unknown_nodes(self):
         for call in (out_labels, in_labels, labels_at, degree):
@@ -66,7 +64,7 @@ class TestLabels(ReadingsCase):
         self.check_error(UnknownNode("b"), other_end, GRAPH, "l", "b")
 
 
-class TestWays(ReadingsCase):
+class TestWays(WardCase):
     def test_nothing_leads_to_the_same_node_alone(self):
         for s, t in pairs_of(GRAPH):
             self.assertIs(is_way(GRAPH, s, t, ()), s == t)
@@ -114,7 +112,7 @@ class TestWays(ReadingsCase):
             self.check_error(UnknownNode("e"), call, GRAPH, "e", "e", ("p",))
 
 
-class TestPrices(ReadingsCase):
+class TestPrices(WardCase):
     def test_sums(self):
         for kind in (list, tuple):
             self.assertEqual(price_of(GRAPH, kind(())), 0)

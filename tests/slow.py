@@ -1,0 +1,109 @@
+"""Slow counts by trying all there is, to be compared with the program's answers."""
+
+import itertools
+
+
+def simple_ways(graph, s, t, passed=()):
+    """All ways from s to t without a node that comes twice."""
+    if s == t:
+        return [()]
+    ways = []
+    for label, tail, head, _, _ in graph.edges:
+        if tail == s and head not in passed + (s,):
+            ways += [(label,) + rest for rest in simple_ways(graph, head, t, passed + (s,))]
+    return ways
+
+
+def edgewise_ways(graph, s, t, used=()):
+    """All ways from s to t without an edge that comes twice."""
+    ways = [()] if s == t else []
+    for label, tail, head, _, _ in graph.edges:
+        if tail == s and label not in used:
+            ways += [(label,) + rest for rest in edgewise_ways(graph, head, t, used + (label,))]
+    return ways
+
+
+def simple_rounds(graph, u):
+    """All rounds from u in which no node comes twice but u at both ends."""
+    rounds = []
+    for label, tail, head, _, _ in graph.edges:
+        if tail == u:
+            rounds += [(label,) + rest for rest in simple_ways(graph, head, u)]
+    return rounds
+
+
+def price(graph, labels):
+    prices = {edge[0]: edge[3] for edge in graph.edges}
+    return sum(prices[label] for label in labels)
+
+
+def way_claim(graph, s, t):
+    ways = simple_ways(graph, s, t)
+    if not ways:
+        return ("no way", s, t)
+    for u in graph.nodes:
+        if simple_ways(graph, s, u) and simple_ways(graph, u, t):
+            if any(price(graph, labels) < 0 for labels in simple_rounds(graph, u)):
+                return ("ever less", s, t)
+    return ("distance", s, t, min(price(graph, labels) for labels in ways))
+
+
+def sides(graph, s, t):
+    """All sides with s, without t."""
+    others = [name for name in graph.nodes if name not in (s, t)]
+    for many in range(len(others) + 1):
+        for some in itertools.combinations(others, many):
+            yield tuple(name for name in graph.nodes if name == s or name in some)
+
+
+def leaving(graph, side):
+    return [edge for edge in graph.edges if edge[1] in side and edge[2] not in side]
+
+
+def least_room(graph, s, t):
+    return min(sum(edge[4] for edge in leaving(graph, side)) for side in sides(graph, s, t))
+
+
+def out_less_in(graph, flow, name):
+    out = sum(sent for sent, edge in zip(flow, graph.edges) if edge[1] == name)
+    return out - sum(sent for sent, edge in zip(flow, graph.edges) if edge[2] == name)
+
+
+def all_flows(graph, s, t):
+    """All flows from s to t."""
+    for flow in itertools.product(*[range(edge[4] + 1) for edge in graph.edges]):
+        if all(out_less_in(graph, flow, name) == 0 for name in graph.nodes if name not in (s, t)):
+            yield flow
+
+
+def cost(graph, flow):
+    return sum(sent * edge[3] for sent, edge in zip(flow, graph.edges))
+
+
+def least_costs(graph, s, t):
+    """For each amount from 0 on of which there are flows the least cost."""
+    costs = {}
+    for flow in all_flows(graph, s, t):
+        amount = out_less_in(graph, flow, s)
+        if amount >= 0:
+            costs[amount] = min(costs.get(amount, cost(graph, flow)), cost(graph, flow))
+    return costs
+
+
+def most_apart(sets):
+    """The greatest number of these sets of which no two have a common member."""
+    if not sets:
+        return 0
+    first, *rest = sets
+    return max(most_apart(rest), 1 + most_apart([other for other in rest if not first & other]))
+
+
+def edge_ways(graph, s, t):
+    least = {frozenset(labels) for labels in edgewise_ways(graph, s, t)}
+    return most_apart(sorted(least, key=sorted))
+
+
+def node_ways(graph, s, t):
+    heads = {edge[0]: edge[2] for edge in graph.edges}
+    inner = {frozenset(heads[label] for label in labels[:-1]) for labels in simple_ways(graph, s, t)}
+    return most_apart(sorted(inner, key=sorted))
