@@ -1,7 +1,8 @@
 """Flows along edges (label, tail, head, price, room), whatever their nodes are.
 
-A flow is a list here, with a number for each of the edges; the keys of the
-steps that are left are pairs (place, sign): one more, or one less, at the edge.
+A flow has a number for each of the edges, and those that are made here are
+lists; the keys of the steps that are left are pairs (place, sign): the place of
+the edge, and 1 to send more along it or -1 to send back.
 """
 
 from bridgeward.steps import falling_round, reached, trace

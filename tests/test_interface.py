@@ -1,8 +1,11 @@
 """Points 1, 2 and the interface: names, files, parameters, arguments by name."""
 
+import contextlib
 import importlib
 import inspect
 import unittest
+
+from bridgeward.errors import WardError
 
 FUNCTIONS = {
     "readings": [
@@ -33,6 +36,11 @@ GRAPH_METHODS = [
 GRAPH_OPERATORS = ["__eq__", "__len__", "__contains__", "__getitem__", "__str__", "__iter__"]
 
 
+def told_values(values):
+    """All values as strings, the graph by its text."""
+    return {word: str(value) if word == "graph" else repr(value) for word, value in values.items()}
+
+
 class TestInterface(unittest.TestCase):
     def test_functions(self):
         for name, told in FUNCTIONS.items():
@@ -51,6 +59,22 @@ class TestInterface(unittest.TestCase):
             self.assertEqual(method.__name__ + str(inspect.signature(method)), line)
         for name in GRAPH_OPERATORS:
             self.assertIn(name, vars(graph_class))
+
+    def test_arguments_stay(self):
+        graph_class = importlib.import_module("bridgeward.graphs").Graph
+        graph = graph_class(("s", "u", "t"), (("x", "s", "u", -1, 2), ("y", "u", "t", 3, 2), ("l", "u", "u", -1, 3)))
+        values = {
+            "graph": graph, "s": "s", "t": "t", "name": "s", "label": "x", "labels": ["x", "y"], "amount": 1,
+            "kind": "node ways", "claim": ["flow", ["s"]], "warrant": [["x"], ("s", [])], "text": "nodes",
+        }
+        before = told_values(values)
+        for name, told in FUNCTIONS.items():
+            for line in told:
+                function = getattr(importlib.import_module("bridgeward." + name), line.partition("(")[0])
+                given = {word: values[word] for word in inspect.signature(function).parameters}
+                with contextlib.suppress(WardError):
+                    function(**given)
+                self.assertEqual(told_values(values), before)
 
     def test_arguments_by_name(self):
         graph_class = importlib.import_module("bridgeward.graphs").Graph
