@@ -35,7 +35,7 @@ def distances(graph, s):
 
 def _nodes_between(graph, s, t):
     """The nodes that are on ways from s to t, in node order."""
-    steps = directed_steps(graph)
+    steps = directed_steps(graph.edges)
     behind = reached(steps, s)
     ahead = reached(turned(steps), t)
     return [name for name in graph.nodes if name in behind and name in ahead]
@@ -43,7 +43,7 @@ def _nodes_between(graph, s, t):
 
 def _steps_within(graph, names):
     """The steps that have both ends among names."""
-    return [step for step in directed_steps(graph) if step[1] in names and step[2] in names]
+    return [step for step in directed_steps(graph.edges) if step[1] in names and step[2] in names]
 
 
 def way_claim(graph, s, t):
@@ -63,7 +63,7 @@ def way_warrant(graph, s, t):
     """Some warrant of way_claim(graph, s, t)."""
     require_nodes(graph, (s, t))
     names = _nodes_between(graph, s, t)
-    behind = reached(directed_steps(graph), s)
+    behind = reached(directed_steps(graph.edges), s)
     if not names:
         return in_node_order(graph, behind)
     steps = _steps_within(graph, names)
@@ -119,7 +119,7 @@ def _marks_hold(graph, s, t, d, marks):
     at = dict(zip(graph.nodes, marks))
     if not is_integer(at[s]) or not is_integer(at[t]) or at[t] - at[s] != d:
         return False
-    return all([_step_fits(at[tail], at[head], price) for _, tail, head, price in directed_steps(graph)])
+    return all([_step_fits(at[tail], at[head], price) for _, tail, head, price in directed_steps(graph.edges)])
 
 
 def _step_fits(tail_mark, head_mark, price):

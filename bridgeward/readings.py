@@ -71,6 +71,13 @@ def is_walk(graph, s, t, labels):
     return _leads(moves, s, t, labels)
 
 
+def is_circle(graph, name, labels):
+    """Whether labels is a circle from the node of this name; both may be any value."""
+    if name not in graph or labels == () or not is_walk(graph, name, name, labels):
+        return False
+    return len(set(labels)) == len(labels)
+
+
 def price_of(graph, labels):
     """The sum of the prices of the edges, each as often as it comes."""
     return sum([graph[label][3] for label in labels])

@@ -1,19 +1,25 @@
 """Ways along steps; a step is a tuple (key, tail, head, price).
 
-A graph gives steps by the directed reading, a flow gives those along which
-more can be sent or sent back. The tables of last steps that are returned here
+Edges give steps by either reading, their keys being the labels; a flow gives
+those along which more can be sent or sent back. The tables of last steps that are returned here
 have for each node the step that led to it, None where a search began.
 """
 
 
-def directed_steps(graph):
-    """The steps of a graph, their keys being the labels."""
-    return [edge[:4] for edge in graph.edges]
+def directed_steps(edges):
+    """The steps of the edges by the directed reading."""
+    return [edge[:4] for edge in edges]
 
 
 def turned(steps):
     """The same steps from head to tail."""
     return [(key, head, tail, price) for key, tail, head, price in steps]
+
+
+def walk_steps(edges):
+    """The steps of the edges by the undirected reading: from either end to the other."""
+    steps = directed_steps(edges)
+    return steps + turned(steps)
 
 
 def reached(steps, start):

@@ -64,12 +64,16 @@ ODD_VALUES = NO_NAMES + ["a", "b", "x", "before", "past", 2, 10 ** 12 - 1, (("x"
 
 
 def random_graph(seed, most_nodes=4, most_edges=6, prices=(-3, 4), most_room=3):
-    """A small graph with loops and parallel edges, the same for the same seed."""
+    """A small graph with loops and parallel edges, the same for the same seed.
+
+    Every third one has labels that are names of its nodes, too.
+    """
     dice = random.Random(seed)
     nodes = tuple(string.ascii_lowercase[: dice.randint(2, most_nodes)])
+    first = 15 if seed % 3 else 0
     edges = [
         (label, dice.choice(nodes), dice.choice(nodes), dice.randint(*prices), dice.randint(0, most_room))
-        for label in string.ascii_lowercase[15: 15 + dice.randint(0, most_edges)]
+        for label in string.ascii_lowercase[first: first + dice.randint(0, most_edges)]
     ]
     return Graph(nodes, edges)
 

@@ -107,3 +107,98 @@ def node_ways(graph, s, t):
     heads = {edge[0]: edge[2] for edge in graph.edges}
     inner = {frozenset(heads[label] for label in labels[:-1]) for labels in simple_ways(graph, s, t)}
     return most_apart(sorted(inner, key=sorted))
+
+
+def subsets(members):
+    """All tuples of some of the members, in their order."""
+    for many in range(len(members) + 1):
+        yield from itertools.combinations(members, many)
+
+
+def joined_sets(names, edges):
+    """The sets of names joined by the edges that have both ends among them."""
+    sets = [{name} for name in names]
+    for edge in edges:
+        touched = [some for some in sets if some & set(edge[1:3])]
+        if set(edge[1:3]) <= set(names):
+            sets = [some for some in sets if some not in touched] + [set().union(*touched)]
+    return sets
+
+
+def parts(graph):
+    rows = [tuple(name for name in graph.nodes if name in some) for some in joined_sets(graph.nodes, graph.edges)]
+    return tuple(sorted(rows, key=lambda row: graph.nodes.index(row[0])))
+
+
+def others_joined(graph, name):
+    """The nodes that are joined with this one, without itself."""
+    return tuple(other for row in parts(graph) if name in row for other in row if other != name)
+
+
+def bridges(graph):
+    return tuple(edge[0] for edge in graph.edges if len(parts(graph.without_edge(edge[0]))) > len(parts(graph)))
+
+
+def cut_nodes(graph):
+    return tuple(
+        name for name in graph.nodes if len(joined_sets(others_joined(graph, name), graph.edges)) > 1
+    )
+
+
+def across(graph, side):
+    """The edges with one end in the side and one out."""
+    return [edge for edge in graph.edges if len(set(edge[1:3]) & set(side)) == 1 and edge[1] != edge[2]]
+
+
+def walks_edgewise(graph, here, used=()):
+    """All pairs of a node and a walk to it from here in which no edge comes twice."""
+    yield here, used
+    for label, tail, head, _, _ in graph.edges:
+        if label not in used and here in (tail, head):
+            yield from walks_edgewise(graph, head if here == tail else tail, used + (label,))
+
+
+def circles(graph):
+    """All pairs of a node and a circle from it."""
+    for name in graph.nodes:
+        yield from [(end, labels) for end, labels in walks_edgewise(graph, name) if end == name and labels]
+
+
+def strong_parts(graph):
+    def leads(s, t):
+        return bool(simple_ways(graph, s, t))
+
+    rows = []
+    for s in graph.nodes:
+        row = tuple(t for t in graph.nodes if leads(s, t) and leads(t, s))
+        if row not in rows:
+            rows.append(row)
+    return tuple(rows)
+
+
+def orders(graph):
+    """All rows of all nodes in which each edge leads further on."""
+    for row in itertools.permutations(graph.nodes):
+        if all(row.index(edge[1]) < row.index(edge[2]) for edge in graph.edges):
+            yield row
+
+
+def spanning_forests(graph):
+    """All spanning forests."""
+    many = len(graph.nodes) - len(parts(graph))
+    for labels in itertools.combinations([edge[0] for edge in graph.edges], many):
+        chosen = [edge for edge in graph.edges if edge[0] in labels]
+        if len(joined_sets(graph.nodes, chosen)) == len(parts(graph)):
+            yield labels
+
+
+def trees(graph, r):
+    """All trees from r."""
+    entering = [[edge for edge in graph.edges if edge[2] == name] for name in graph.nodes if name != r]
+    for chosen in itertools.product(*entering):
+        found, before = {r}, set()
+        while found != before:
+            before = found
+            found = before | {edge[2] for edge in chosen if edge[1] in before}
+        if len(found) == len(graph):
+            yield tuple(edge[0] for edge in graph.edges if edge in chosen)

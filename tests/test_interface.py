@@ -27,6 +27,21 @@ FUNCTIONS = {
         "edge_ways(graph, s, t)", "node_ways(graph, s, t)", "ways_claim(graph, kind, s, t)",
         "ways_warrant(graph, kind, s, t)", "ways_hold(graph, claim, warrant)",
     ],
+    "parts": [
+        "parts(graph)", "bridges(graph)", "cut_nodes(graph)", "cut_claim(graph, kind)", "cut_warrant(graph, kind)",
+        "cut_holds(graph, claim, warrant)",
+    ],
+    "orders": [
+        "strong_parts(graph)", "first_order(graph)", "order_claim(graph, kind)", "order_warrant(graph, kind)",
+        "order_holds(graph, claim, warrant)",
+    ],
+    "forests": [
+        "forest_price(graph)", "first_forest(graph)", "forest_claim(graph)", "forest_warrant(graph)",
+        "forest_holds(graph, claim, warrant)",
+    ],
+    "trees": [
+        "tree_price(graph, r)", "tree_claim(graph, r)", "tree_warrant(graph, r)", "tree_holds(graph, claim, warrant)",
+    ],
 }
 GRAPH_METHODS = [
     "place(self, name)", "with_node(self, name)", "without_node(self, name)", "with_edge(self, edge)",
@@ -65,7 +80,7 @@ class TestInterface(unittest.TestCase):
         graph = graph_class(("s", "u", "t"), (("x", "s", "u", -1, 2), ("y", "u", "t", 3, 2), ("l", "u", "u", -1, 3)))
         values = {
             "graph": graph, "s": "s", "t": "t", "name": "s", "label": "x", "labels": ["x", "y"], "amount": 1,
-            "kind": "node ways", "claim": ["flow", ["s"]], "warrant": [["x"], ("s", [])], "text": "nodes",
+            "r": "s", "kind": "node ways", "claim": ["flow", ["s"]], "warrant": [["x"], ("s", [])], "text": "nodes",
         }
         before = told_values(values)
         for name, told in FUNCTIONS.items():
