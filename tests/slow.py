@@ -202,3 +202,46 @@ def trees(graph, r):
             found = before | {edge[2] for edge in chosen if edge[1] in before}
         if len(found) == len(graph):
             yield tuple(edge[0] for edge in graph.edges if edge in chosen)
+
+
+def matchings(graph, left=None):
+    """All matchings."""
+    edges = graph.edges if left is None else left
+    if not edges:
+        return [()]
+    first, rest = edges[0], edges[1:]
+    found = matchings(graph, rest)
+    if first[1] != first[2]:
+        apart = [edge for edge in rest if not set(first[1:3]) & set(edge[1:3])]
+        found = found + [first[:1] + labels for labels in matchings(graph, apart)]
+    return found
+
+
+def perfect_matchings(graph):
+    return [labels for labels in matchings(graph) if 2 * len(labels) == len(graph)]
+
+
+def odd_parts(graph, gone):
+    names = [name for name in graph.nodes if name not in gone]
+    return sum(len(some) % 2 for some in joined_sets(names, graph.edges))
+
+
+def two_sides(graph):
+    """All sides for which each edge has one end in it and one out."""
+    for side in subsets(graph.nodes):
+        if len(across(graph, side)) == len(graph.edges):
+            yield side
+
+
+def covers(graph):
+    """All covers."""
+    for nodes in subsets(graph.nodes):
+        if all(set(edge[1:3]) & set(nodes) for edge in graph.edges):
+            yield nodes
+
+
+def tours(graph, name):
+    """All tours from the node, those first whose labels come first."""
+    for end, labels in walks_edgewise(graph, name):
+        if end == name and len(labels) == len(graph.edges):
+            yield labels

@@ -42,6 +42,21 @@ FUNCTIONS = {
     "trees": [
         "tree_price(graph, r)", "tree_claim(graph, r)", "tree_warrant(graph, r)", "tree_holds(graph, claim, warrant)",
     ],
+    "matchings": [
+        "matching_size(graph)", "matching_claim(graph)", "matching_warrant(graph)",
+        "matching_holds(graph, claim, warrant)",
+    ],
+    "perfect": [
+        "perfect_price(graph)", "perfect_claim(graph)", "perfect_warrant(graph)",
+        "perfect_holds(graph, claim, warrant)",
+    ],
+    "sides": [
+        "first_sides(graph)", "sides_claim(graph)", "sides_warrant(graph)", "sides_holds(graph, claim, warrant)",
+        "cover_size(graph)", "cover_claim(graph)", "cover_warrant(graph)", "cover_holds(graph, claim, warrant)",
+    ],
+    "tours": [
+        "tour_claim(graph)", "tour_warrant(graph)", "tour_holds(graph, claim, warrant)", "first_tour(graph, name)",
+    ],
 }
 GRAPH_METHODS = [
     "place(self, name)", "with_node(self, name)", "without_node(self, name)", "with_edge(self, edge)",
