@@ -52,7 +52,7 @@ def _spans(graph, labels):
 def _is_cheapest(graph, labels):
     """Whether no edge is cheaper than one on the walk between its ends in the forest."""
     steps = walk_steps(labelled_edges(graph, labels))
-    for _, tail, head, price, _ in graph.edges:
+    for tail, head, price in [edge[1:4] for edge in graph.edges]:
         passed = trace(reached(steps, tail), head)
         if any([edge[3] > price for edge in labelled_edges(graph, passed)]):
             return False

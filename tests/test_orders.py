@@ -77,6 +77,19 @@ class TestAnswers(WardCase):
             self.assertEqual(claim, ORDER if len(strong_parts(graph)) == 8 else ROUND)
             self.check_warrant(graph, claim, "order")
 
+    def test_full_graphs_with_an_order(self):
+        for graph in full_graphs():
+            row = graph.nodes[::3] + graph.nodes[1::3] + graph.nodes[2::3]
+            ends = [sorted(edge[1:3], key=row.index) for edge in graph.edges]
+            graph = Graph(graph.nodes, [edge[:1] + tuple(pair) + edge[3:] for edge, pair in zip(graph.edges, ends)])
+            due = next(row for row in itertools.permutations(graph.nodes) if self.ascends(graph, row))
+            self.assertEqual(first_order(graph), due)
+            self.check_warrant(graph, ORDER, "order")
+            self.check_warrant(graph, ("strong", tuple((name,) for name in graph.nodes)), "strong")
+
+    def ascends(self, graph, row):
+        return all(row.index(edge[1]) < row.index(edge[2]) for edge in graph.edges)
+
     def test_samples(self):
         self.assertEqual((strong_parts(GRAPH), order_claim(GRAPH, "order")), (ROWS, ROUND))
         self.assertEqual(strong_parts(LINE), (("d",), ("c",), ("b",), ("a",), ("e",)))
