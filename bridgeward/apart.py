@@ -25,15 +25,18 @@ def node_ways(graph, s, t):
     return balance(edges, greatest(edges, (s, 1), (t, 0)), (s, 1))
 
 
-def _joined_by_edge(graph, s, t):
-    """Whether an edge leads from s to t."""
-    return (s, t) in [edge[1:3] for edge in graph.edges]
+def first_joining(graph, s, t):
+    """The label of the first edge in edge order that leads from s to t, or None if none does."""
+    for edge in graph.edges:
+        if edge[1:3] == (s, t):
+            return edge[0]
+    return None
 
 
 def _require_no_edge(graph, s, t):
     """Raise what is due unless s and t are unlike nodes without an edge from s to t."""
     require_ends(graph, s, t)
-    if _joined_by_edge(graph, s, t):
+    if first_joining(graph, s, t) is not None:
         raise Undefined("ways")
 
 
@@ -114,7 +117,7 @@ def ways_hold(graph, claim, warrant):
     kind, s, t, k = claim
     if kind == EDGE_WAYS:
         return _edge_ways_hold(graph, s, t, k, warrant)
-    if kind == NODE_WAYS and not _joined_by_edge(graph, s, t):
+    if kind == NODE_WAYS and first_joining(graph, s, t) is None:
         return _node_ways_hold(graph, s, t, k, warrant)
     return False
 

@@ -2,7 +2,7 @@
 
 from bridgeward.errors import InvalidNumber, Undefined
 from bridgeward.flows import require_ends
-from bridgeward.networks import balance, cheapened, cost_of, filled, left_steps, reached_side
+from bridgeward.networks import balance, carries, cheapened, cost_of, filled, left_steps, reached_side
 from bridgeward.rows import in_node_order, is_side, joins_unlike_nodes, leaving_edges
 from bridgeward.steps import least_prices
 from bridgeward.values import has_parts, is_integer, is_number
@@ -68,10 +68,7 @@ def _is_flow(graph, s, t, k, value):
         return False
     if not all([is_number(sent) and sent <= edge[4] for sent, edge in zip(value, graph.edges)]):
         return False
-    inner = [name for name in graph.nodes if name not in (s, t)]
-    if any([balance(graph.edges, value, name) != 0 for name in inner]):
-        return False
-    return balance(graph.edges, value, s) == k
+    return carries(graph.edges, graph.nodes, s, t, k, value)
 
 
 def _flow_and_side_hold(graph, s, t, k, warrant):

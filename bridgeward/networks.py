@@ -14,6 +14,13 @@ def balance(edges, flow, name):
     return out - sum([flow[place] for place, edge in enumerate(edges) if edge[2] == name])
 
 
+def carries(edges, names, s, t, amount, flow):
+    """Whether so much goes out at s, and at each other of names but t as much comes in as goes out."""
+    if any([balance(edges, flow, name) != 0 for name in names if name not in (s, t)]):
+        return False
+    return balance(edges, flow, s) == amount
+
+
 def cost_of(edges, flow):
     """The sum of the numbers times the prices."""
     return sum([flow[place] * edge[3] for place, edge in enumerate(edges)])

@@ -56,6 +56,11 @@ def edges_across(graph, side):
     return [edge for edge in graph.edges if (edge[1] in side) != (edge[2] in side)]
 
 
+def room_across(graph, side):
+    """The room of the side: the sum of the rooms of the edges that have just one end in it."""
+    return sum([edge[4] for edge in edges_across(graph, side)])
+
+
 def edges_within(graph, side):
     """The edges that have both ends in side."""
     return [edge for edge in graph.edges if edge[1] in side and edge[2] in side]

@@ -245,3 +245,128 @@ def tours(graph, name):
     for end, labels in walks_edgewise(graph, name):
         if end == name and len(labels) == len(graph.edges):
             yield labels
+
+
+def room_across(graph, side):
+    return sum(edge[4] for edge in across(graph, side))
+
+
+def least_cut(graph, a, b):
+    return min(room_across(graph, side) for side in sides(graph, a, b))
+
+
+def cut_tree_rows(graph):
+    """All rows for which the claim of a cut tree is true."""
+    pairs = [(a, b, least_cut(graph, a, b)) for a, b in itertools.combinations(graph.nodes, 2)]
+    for rows in itertools.combinations(pairs, len(graph) - 1):
+        edges = [("x", a, b) for a, b, _ in rows]
+        if len(joined_sets(graph.nodes, edges)) == 1:
+            sets = [joined_sets(graph.nodes, edges[:at] + edges[at + 1:]) for at in range(len(rows))]
+            if all(room_across(graph, two[0]) == row[2] for two, row in zip(sets, rows)):
+                yield rows
+
+
+def neighbours(graph, name):
+    return {end for edge in graph.edges if name in edge[1:3] for end in edge[1:3] if end != name}
+
+
+def are_mutual(graph, names):
+    return all(other in neighbours(graph, name) for name, other in itertools.combinations(names, 2))
+
+
+def holes(graph):
+    """All holes."""
+    joined = pairs_joined(graph)
+    for many in range(4, len(graph) + 1):
+        for row in itertools.permutations(graph.nodes, many):
+            beside = {frozenset(pair) for pair in zip(row, row[1:] + row[:1])}
+            if beside <= joined and sum(pair <= set(row) for pair in joined) == many:
+                yield row
+
+
+def eliminations(graph):
+    """All rows of all nodes, of each the neighbours behind it being neighbours of one another."""
+    for row in itertools.permutations(graph.nodes):
+        behind = [neighbours(graph, name) & set(row[at:]) for at, name in enumerate(row)]
+        if all(are_mutual(graph, sorted(names)) for names in behind):
+            yield row
+
+
+def colourings(graph, many):
+    """All ways to give numbers below many."""
+    for numbers in itertools.product(range(many), repeat=len(graph)):
+        at = dict(zip(graph.nodes, numbers))
+        if all(at[edge[1]] != at[edge[2]] for edge in graph.edges if edge[1] != edge[2]):
+            yield numbers
+
+
+def drawings(graph):
+    """All drawings, the first member of each turn being the same."""
+    choices = []
+    for name in graph.nodes:
+        ends = [edge[0] for edge in graph.edges for end in edge[1:3] if end == name]
+        choices.append(sorted({(*ends[:1], *rest) for rest in itertools.permutations(ends[1:])}))
+    return itertools.product(*choices)
+
+
+def faces(graph, drawing):
+    """The number of faces, the sides being told by the node and the place in its turn at which they leave."""
+    places = {}
+    for name, labels in zip(graph.nodes, drawing):
+        for at, label in enumerate(labels):
+            # Of a loop the tail's end comes first, and so does the tail of another edge here.
+            ends = places.setdefault(label, [])
+            ends.insert(0 if graph[label][1] == name and graph[label][1] != graph[label][2] else len(ends), (name, at))
+    sides_left = {end for ends in places.values() for end in ends}
+    many = 0
+    while sides_left:
+        many += 1
+        name, at = min(sides_left)
+        while (name, at) in sides_left:
+            sides_left.remove((name, at))
+            labels = drawing[graph.nodes.index(name)]
+            one, other = places[labels[at]]
+            name, came = other if (name, at) == one else one
+            at = (came + 1) % len(drawing[graph.nodes.index(name)])
+    return many
+
+
+def is_plane_drawing(graph, drawing):
+    nodes = [name for name in graph.nodes if any(name in edge[1:3] for edge in graph.edges)]
+    return len(nodes) - len(graph.edges) + faces(graph, drawing) == 2 * len(joined_sets(nodes, graph.edges))
+
+
+def is_plane(pairs, known={}):
+    """Whether no K5 and no K33 comes of these pairs (a frozenset of frozensets) by taking out and drawing together."""
+    if pairs not in known:
+        known[pairs] = _is_plane(pairs, known)
+    return known[pairs]
+
+
+def _is_plane(pairs, known):
+    names = sorted({name for pair in pairs for name in pair})
+    degrees = {name: sum(name in pair for pair in pairs) for name in names}
+    if len(pairs) < 9 or len(names) < 5:
+        return True
+    if len(pairs) == 10 and len(names) == 5:
+        return False
+    if len(pairs) == 9 and set(degrees.values()) == {3} and len(names) == 6:
+        first = [name for name in names if frozenset((names[0], name)) in pairs]
+        if not any(pair <= set(first) for pair in pairs):
+            return False
+    # A node of few neighbours is drawn together with one of them; else all edges are tried.
+    few = [name for name in names if degrees[name] < 3]
+    tried = [pair for pair in pairs if not few or few[0] in pair]
+    smaller = [drawn_together(pairs, *sorted(pair)) for pair in (tried[:1] if few else tried)]
+    return all(is_plane(some, known) for some in smaller + ([] if few else [pairs - {pair} for pair in pairs]))
+
+
+def drawn_together(pairs, one, other):
+    """The pairs with one in the place of other."""
+    drawn = [frozenset(one if name == other else name for name in pair) for pair in pairs]
+    return frozenset(pair for pair in drawn if len(pair) == 2)
+
+
+def pairs_joined(graph):
+    """The pairs of unlike nodes that edges join."""
+    return frozenset(frozenset(edge[1:3]) for edge in graph.edges if edge[1] != edge[2])

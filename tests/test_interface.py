@@ -57,6 +57,22 @@ FUNCTIONS = {
     "tours": [
         "tour_claim(graph)", "tour_warrant(graph)", "tour_holds(graph, claim, warrant)", "first_tour(graph, name)",
     ],
+    "cuts": [
+        "least_cut(graph, a, b)", "cut_tree(graph)", "cut_tree_warrant(graph, rows)",
+        "cut_tree_holds(graph, claim, warrant)",
+    ],
+    "holes": [
+        "hole_claim(graph)", "hole_warrant(graph)", "hole_holds(graph, claim, warrant)", "first_elimination(graph)",
+        "colours(graph)", "colours_claim(graph)", "colours_warrant(graph)", "colours_holds(graph, claim, warrant)",
+    ],
+    "plane": [
+        "plane_claim(graph)", "plane_warrant(graph)", "plane_holds(graph, claim, warrant)", "faces(graph, drawing)",
+        "crossing_edges(graph)",
+    ],
+    "claims": [
+        "is_question(value)", "answer_of(graph, question)", "warrant_of(graph, question)", "is_claim(value)",
+        "claim_holds(graph, claim, warrant)", "questions_of(claim)", "refute(graph, claim)",
+    ],
 }
 GRAPH_METHODS = [
     "place(self, name)", "with_node(self, name)", "without_node(self, name)", "with_edge(self, edge)",
@@ -96,6 +112,8 @@ class TestInterface(unittest.TestCase):
         values = {
             "graph": graph, "s": "s", "t": "t", "name": "s", "label": "x", "labels": ["x", "y"], "amount": 1,
             "r": "s", "kind": "node ways", "claim": ["flow", ["s"]], "warrant": [["x"], ("s", [])], "text": "nodes",
+            "a": "s", "b": "t", "rows": [("s", "t", ["u"])], "drawing": [("x",), ["x"]], "question": ["flow", "s", "t"],
+            "value": [["parts"]],
         }
         before = told_values(values)
         for name, told in FUNCTIONS.items():

@@ -99,6 +99,35 @@ class TestModules(unittest.TestCase):
                 else:
                     self.assertIsInstance(node, allowed, name)
 
+    def test_dicts_at_module_level_are_only_read(self):
+        for name, tree in TREES.items():
+            tables = [
+                target.id for node in tree.body if isinstance(node, ast.Assign) and isinstance(node.value, (ast.Dict, ast.List))
+                for target in node.targets
+            ]
+            read = []
+            for node in ast.walk(tree):
+                if isinstance(node, ast.Subscript) and isinstance(node.ctx, ast.Load):
+                    read.append(node.value)
+                elif isinstance(node, ast.Attribute) and node.attr in ("get", "items"):
+                    read.append(node.value)
+                elif isinstance(node, ast.Compare):
+                    read.extend(node.comparators)
+            uses = [
+                node for node in ast.walk(tree)
+                if isinstance(node, ast.Name) and node.id in tables and isinstance(node.ctx, ast.Load)
+            ]
+            self.assertLessEqual(set(uses), set(read), name)
+
+    def test_tables_are_not_imported(self):
+        tables = {
+            target.id for tree in TREES.values() for node in tree.body
+            if isinstance(node, ast.Assign) and isinstance(node.value, (ast.Dict, ast.List)) for target in node.targets
+        }
+        for name, tree in TREES.items():
+            imported = {alias.name for node in imports_of(tree) for alias in node.names}
+            self.assertEqual(imported & tables, set(), name)
+
     def test_names_are_bound_once(self):
         for name, tree in TREES.items():
             names = module_names(tree) + [alias.name for node in imports_of(tree) for alias in node.names]
