@@ -31,7 +31,7 @@ class TestExamples(unittest.TestCase):
 
     def test_examples(self):
         examples = EXAMPLES.strip().split("\n\n")
-        self.assertGreaterEqual(len(examples), 112)
+        self.assertGreaterEqual(len(examples), 139)
         for example in examples:
             with self.subTest(example=example):
                 self.check_example(example.split("\n"))

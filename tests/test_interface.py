@@ -73,11 +73,26 @@ FUNCTIONS = {
         "is_question(value)", "answer_of(graph, question)", "warrant_of(graph, question)", "is_claim(value)",
         "claim_holds(graph, claim, warrant)", "questions_of(claim)", "refute(graph, claim)",
     ],
+    "spans": [
+        "price_span(graph, claim, label)", "span_warrant(graph, claim, label)",
+        "span_holds(graph, claim, label, low, high, given)",
+    ],
+    "told": ["told(value)", "untold(text)"],
+    "edits": [
+        "edited(graph, edit)", "touched(graph, question, edit)", "quiet_edges(graph, question)",
+        "needed_edges(graph, question)",
+    ],
+    "wards": ["same_state(one, other)"],
+    "papers": ["paper_holds(text)", "paper_end(text)", "relived(text)"],
 }
 GRAPH_METHODS = [
     "place(self, name)", "with_node(self, name)", "without_node(self, name)", "with_edge(self, edge)",
     "without_edge(self, label)", "with_price(self, label, price)", "with_room(self, label, room)",
     "__init__(self, nodes, edges)",
+]
+WARD_METHODS = [
+    "__init__(self, graph)", "claim(self, question)", "warrant(self, question)", "watch(self, question)",
+    "leave(self, question)", "edit(self, edit)", "undo(self)", "redo(self)", "done(self)", "paper(self)",
 ]
 GRAPH_OPERATORS = ["__eq__", "__len__", "__contains__", "__getitem__", "__str__", "__iter__"]
 
@@ -97,23 +112,35 @@ class TestInterface(unittest.TestCase):
                 self.assertEqual(function.__module__, module.__name__)
                 self.assertEqual(function.__name__ + str(inspect.signature(function)), line)
 
+    def check_methods(self, one_class, lines):
+        for line in lines:
+            method = vars(one_class)[line.partition("(")[0]]
+            self.assertEqual(method.__name__ + str(inspect.signature(method)), line)
+
     def test_graph(self):
         graph_class = importlib.import_module("bridgeward.graphs").Graph
         self.assertEqual(graph_class.__module__, "bridgeward.graphs")
-        for line in GRAPH_METHODS:
-            method = vars(graph_class)[line.partition("(")[0]]
-            self.assertEqual(method.__name__ + str(inspect.signature(method)), line)
+        self.check_methods(graph_class, GRAPH_METHODS)
         for name in GRAPH_OPERATORS:
             self.assertIn(name, vars(graph_class))
+
+    def test_ward(self):
+        ward_class = importlib.import_module("bridgeward.wards").Ward
+        self.assertEqual(ward_class.__module__, "bridgeward.wards")
+        self.check_methods(ward_class, WARD_METHODS)
+        ward = ward_class(graph=importlib.import_module("bridgeward.graphs").Graph((), ()))
+        self.assertLessEqual({"graph", "watched"}, set(vars(ward)))
 
     def test_arguments_stay(self):
         graph_class = importlib.import_module("bridgeward.graphs").Graph
         graph = graph_class(("s", "u", "t"), (("x", "s", "u", -1, 2), ("y", "u", "t", 3, 2), ("l", "u", "u", -1, 3)))
+        ward = importlib.import_module("bridgeward.wards").Ward(graph)
         values = {
             "graph": graph, "s": "s", "t": "t", "name": "s", "label": "x", "labels": ["x", "y"], "amount": 1,
             "r": "s", "kind": "node ways", "claim": ["flow", ["s"]], "warrant": [["x"], ("s", [])], "text": "nodes",
             "a": "s", "b": "t", "rows": [("s", "t", ["u"])], "drawing": [("x",), ["x"]], "question": ["flow", "s", "t"],
-            "value": [["parts"]],
+            "value": ("a", (1, None)), "edit": ["take edge", "x"], "low": [1], "high": [None], "given": [[()], ["x"]],
+            "one": ward, "other": ward,
         }
         before = told_values(values)
         for name, told in FUNCTIONS.items():
