@@ -17,8 +17,8 @@ def _require_unlike(graph, a, b):
         raise Undefined("cut")
 
 
-def _numbers_and_side(graph, a, b):
-    """The most that can go from a to b, for each edge from tail to head, and a side whose room it fills."""
+def least_cut_warrant(graph, a, b):
+    """Some warrant of the claim of the least room: the most that can go from a to b, and a side whose room it fills."""
     there = list(graph.edges)
     back = [(label, head, tail, price, room) for label, tail, head, price, room in there]
     flow = greatest(there + back, a, b)
@@ -28,7 +28,7 @@ def _numbers_and_side(graph, a, b):
 
 def _least_side(graph, a, b):
     """A side with a, without b, of the least room."""
-    _, side = _numbers_and_side(graph, a, b)
+    _, side = least_cut_warrant(graph, a, b)
     return side
 
 
@@ -41,12 +41,6 @@ def least_cut(graph, a, b):
 def least_cut_claim(graph, a, b):
     """The claim of the least room."""
     return (LEAST_CUT, a, b, least_cut(graph, a, b))
-
-
-def least_cut_warrant(graph, a, b):
-    """Some warrant of least_cut_claim(graph, a, b)."""
-    _require_unlike(graph, a, b)
-    return _numbers_and_side(graph, a, b)
 
 
 def least_cut_holds(graph, claim, warrant):
@@ -143,7 +137,7 @@ def cut_tree_warrant(graph, rows):
         raise Refused((CUT_TREE, rows))
     if any([least_cut(graph, a, b) != w for a, b, w in rows]):
         raise Refused((CUT_TREE, rows))
-    return tuple([_numbers_and_side(graph, a, b)[0] for a, b, _ in rows])
+    return tuple([least_cut_warrant(graph, a, b)[0] for a, b, _ in rows])
 
 
 def cut_tree_holds(graph, claim, warrant):

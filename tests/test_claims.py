@@ -1,6 +1,7 @@
 """Points 38 to 41: questions, claims, the warrants of all claims, refutations."""
 
 import itertools
+import random
 import unittest
 
 import slow
@@ -217,6 +218,25 @@ class TestClaimHolds(WardCase):
                         found = answer_of(other, asked)
                         if found not in truths and claim_holds(graph, found, warrant):
                             self.assertEqual(found, answer_of(graph, questions_of(found)[0]))
+
+    def test_warrants_hold_only_for_what_is_true(self):
+        dice = random.Random(2)
+        found = []
+        for seed in range(150):
+            graph = random_graph(seed, most_nodes=5, most_edges=8)
+            # The other graph is the same but for one edge, which has another price and room or is turned round.
+            edges = list(graph.edges) or [("x", "a", "b", 1, 1)]
+            label, tail, head, price, room = edges.pop()
+            edges.append(dice.choice([(label, tail, head, price + 1, 0), (label, head, tail, price, room + 1)]))
+            other = Graph(graph.nodes, edges)
+            for asked in few_questions(graph):
+                claim, warrant = answer_of(graph, asked), warrant_of(graph, asked)
+                for warrant in (warrant, *dice.sample(list(changed_parts(warrant)), 5)):
+                    for here in (graph, other):
+                        holds = claim_holds(here, claim, warrant)
+                        self.assertTrue(not holds or refute(here, claim) is None, (here.edges, claim, warrant))
+                        found.append(holds)
+        self.assertGreater(min(found.count(True), found.count(False)), 3000)
 
     def test_no_node(self):
         for name in ("z", "x", "a", "abcdefgh"):

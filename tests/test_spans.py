@@ -287,6 +287,23 @@ class TestSpanHolds(SpanCase):
         more = ("distance", "a", "c", 3)
         self.check_holds_not(SAMPLE, CLAIM, "x", (2, 2), ALONE[:2] + ((more, (("x", "y"), (0, 4, 3, "past"))),))
 
+    def test_a_warrant_for_a_price_above_the_second(self):
+        graph = Graph(("s", "u", "v", "t"), (
+            ("x", "s", "u", 1, 0), ("y", "u", "v", 6, 0), ("z", "v", "t", 1, 0), ("q", "s", "t", 5, 0),
+        ))
+        claim = ("distance", "s", "t", 5)
+        self.assertEqual(price_span(graph, claim, "y"), (3, None))
+        under = (("distance", "s", "t", 4), (("x", "y", "z"), (0, 1, 3, 4)))
+        three, four, five = [(("q",), (0, least, 4, 5)) for least in (1, 0, -1)]
+        self.check_holds(graph, claim, "y", (3, None), (under, three, four), (under, three, three))
+        self.check_holds_not(graph, claim, "y", (3, None), (under, three, five), (under, four, four), (under, four, three))
+        away = Graph(SAMPLE.nodes, SAMPLE.edges[:3])
+        far, farther, wrong = [(("x",), (0, 2, least, "past")) for least in (-999997, -999998, -999996)]
+        claim = ("distance", "a", "b", 2)
+        self.assertEqual(price_span(away, claim, "y"), (None, None))
+        self.check_holds(away, claim, "y", (None, None), (farther, far), (farther, farther))
+        self.check_holds_not(away, claim, "y", (None, None), (farther, wrong), (far, far), (far, farther))
+
     def test_low_is_not_the_present_price(self):
         for price in (1, 3, 4):
             self.check_holds_not(SAMPLE.with_price("x", price), CLAIM, "x", (2, 2), ALONE)
