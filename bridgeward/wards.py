@@ -10,14 +10,15 @@ RENEWED = "renewed"
 CHANGED = "changed"
 
 
-def _what_became(graph, question, claim, warrant):
-    """What became of an answer and its warrant now that the graph is this one: a word, the claim and the warrant."""
+def _what_became(graph, question, answer):
+    """What became of an answer, a pair of claim and warrant, now that the graph is this one: a word, and the answer."""
+    claim, warrant = answer
     present = answer_of(graph, question)
     if present != claim:
-        return CHANGED, present, warrant_of(graph, question)
+        return CHANGED, (present, warrant_of(graph, question))
     if claim_holds(graph, claim, warrant):
-        return KEPT, claim, warrant
-    return RENEWED, claim, warrant_of(graph, question)
+        return KEPT, answer
+    return RENEWED, (claim, warrant_of(graph, question))
 
 
 class Ward:
@@ -93,13 +94,14 @@ class Ward:
     def _come_to(self, graph, line):
         """Keep this graph from now on, by the deed of this line; the report."""
         report = []
+        answers = {}
         for question in self.watched:
-            old_claim, old_warrant = self._answers[question]
-            word, claim, warrant = _what_became(graph, question, old_claim, old_warrant)
-            self._answers[question] = (claim, warrant)
-            report.append((question, word, claim))
+            word, answer = _what_became(graph, question, self._answers[question])
+            report.append((question, word, answer[0]))
+            answers[question] = answer
         self.graph = graph
-        self._deeds.append((line, tuple([self._answers[question] for question in self.watched])))
+        self._answers = answers
+        self._deeds.append((line, tuple(answers.values())))
         return tuple(report)
 
     def done(self):

@@ -6,6 +6,7 @@ import unittest
 
 from bridgeward.errors import UnknownNode, WardError
 from bridgeward.graphs import Graph
+from bridgeward.wards import Ward
 
 
 class WardCase(unittest.TestCase):
@@ -59,6 +60,7 @@ def nested(depth):
 NO_NAMES = [
     None, True, False, 0, 1, -1, "", "A", "aB", "a b", "a1", "a_", "-", "\u00e9", "\u00df", "abcdefghi", "a\n",
     b"a", (), ("a",), [], ["a"], Graph(("a",), ()), UnknownNode("a"), nested(20),
+    Ward(Graph(("a",), ())),
 ]
 ODD_VALUES = NO_NAMES + ["a", "b", "x", "before", "past", 2, 10 ** 12 - 1, (("x",), ("a",)), [["x"], ["a"]]]
 
